@@ -383,7 +383,7 @@ func plainTogether(l []rune, all map[[2]rune]rune, classes map[rune]int) []rune 
 	return left
 }
 
-// P3.2, P3.3: of all lists of at most five of some characters Apart and
+// P3.2, P3.3: of all lists of at most four of some characters Apart and
 // Together answer what the chapter says, and what follows from it holds.
 func TestAllShortLists(t *testing.T) {
 	all, classes := made(), marks()
